@@ -174,6 +174,11 @@ func TestTheExample(t *testing.T) { // the chapter's example
 	if !same(c.Told(), view.Read(c.Entries())) {
 		t.Error(c.Told())
 	}
+	do(t, c, input(0, r(1, 1, 3)), 0, api.OK) // that there was nothing to do did no harm
+	do(t, c, work(0, 0, 0, 9, -1), 1, api.OK)
+	if l := vals(x, c, 0, 2, 0); !slices.Equal(l, []int64{5, 11, 12}) {
+		t.Error(l)
+	}
 }
 
 func TestInput(t *testing.T) { // P23.2: EventInput

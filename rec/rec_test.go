@@ -154,6 +154,15 @@ func TestUnusedFields(t *testing.T) { // P3.2
 			}
 		}
 	}
+	for _, x := range full() { // whatever the kind uses beside it
+		for _, f := range fields {
+			y := x
+			f.set(&y)
+			if want := slices.Contains(f.kinds, x.Kind); rec.May(y) != want {
+				t.Errorf("kind %d, full, with %s: %v", x.Kind, f.name, !want)
+			}
+		}
+	}
 	if x := (api.Entry{Kind: api.EntryHole, Offs: []int{}, Order: []int{}}); !rec.May(x) {
 		t.Error("empty lists are no lists") // R2
 	}
