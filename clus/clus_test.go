@@ -263,17 +263,24 @@ func TestStart(t *testing.T) { // P23.2: EventStart
 	holds(t, c, 0, 0, 0)
 }
 
-func TestStartOfWhatIsTooLarge(t *testing.T) { // P23.2: the error of task.New
+// large has a part, the first one, that has too many inputs for a task, and another one.
+func large() api.Topo {
 	var l []api.Vertex
-	for n := range int64(8) {
+	for n := range int64(7) {
 		l = append(l, source(n))
 	}
 	l = append(l, vert(api.VertAgg, 0, sum, 0))
-	for v := 1; v < 8; v++ {
-		l = append(l, vert(api.VertJoin, 0, sum, v, 8))
+	for v := 1; v < 7; v++ {
+		l = append(l, vert(api.VertJoin, 0, sum, v, 7))
 	}
-	l = append(l, vert(api.VertKey, 0, val, 0), vert(api.VertJoin, 0, sum, 16, 8))
-	c := open(t, lay(1, l...), 1)
+	for range 2 {
+		l = append(l, vert(api.VertKey, 0, val, 0), vert(api.VertJoin, 0, sum, len(l), 7))
+	}
+	return lay(1, append(l, source(7))...)
+}
+
+func TestStartOfWhatIsTooLarge(t *testing.T) { // P23.2: the error of task.New
+	c := open(t, large(), 1)
 	do(t, c, start(0, 0), 0, api.ErrRange)
 	holds(t, c, 0, -1)
 	if len(c.Entries()) != 1 { // the fence is there all the same
@@ -283,7 +290,9 @@ func TestStartOfWhatIsTooLarge(t *testing.T) { // P23.2: the error of task.New
 	if l := c.Entries(); len(l) != 2 || l[1].Epoch != 2 {
 		t.Error(l)
 	}
-	do(t, c, balance(1), 0, api.ErrRange)
+	do(t, c, balance(1), 1, api.ErrRange)
+	holds(t, c, 0, -1)
+	holds(t, c, 1, 0, 0)
 }
 
 func TestWorkErrors(t *testing.T) { // P23.2: EventWork
@@ -535,6 +544,13 @@ func TestBalanceCounts(t *testing.T) { // P23.2: the number of starts without an
 	holds(t, c, 0, 0, 0)
 	holds(t, c, 1, -1)
 	do(t, c, balance(1), 0, api.ErrFull)
+	c = open(t, large(), 1)
+	for range 4095 {
+		if _, err := c.Do(input(0, r(1, 1, 0))); err != api.OK {
+			t.Fatal(err)
+		}
+	}
+	do(t, c, balance(1), 0, api.ErrRange) // of both errors the first one
 }
 
 func TestOtherKinds(t *testing.T) { // P23.2

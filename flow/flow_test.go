@@ -127,16 +127,21 @@ func TestChainIsFull(t *testing.T) { // P17.2: a vertex has returned more than 1
 	if got, at, err := flow.Chain(flats(20), rec(0, 0, 0)); got != nil || at != 19 || err != api.ErrFull { // the last one is the first to be full
 		t.Error(len(got), at, err)
 	}
-	// a vertex that returns four records for each of the values from 0 to most - 1
-	exact := func(most int64) []api.Vertex {
+	// a vertex that returns four records for each of the values from 0 to 2499, and so many for each of those up to most - 1
+	exact := func(most, last int64) []api.Vertex {
 		few := vert(api.VertFilter, op(api.OpLess, val, con(most)))
+		four := vert(api.VertFlat, op(api.OpIf, op(api.OpLess, val, con(2500)), con(4), con(last)))
 		spread := slices.Repeat([]api.Vertex{vert(api.VertMap, op(api.OpMul, val, con(4))), vert(api.VertFlat, con(4))}, 6)
-		return append(spread, few, vert(api.VertFlat, con(4)))
+		return append(spread, few, four)
 	}
-	for most, want := range map[int64]api.Errno{2499: api.OK, 2500: api.OK, 2501: api.ErrFull} {
-		got, at, err := flow.Chain(exact(most), rec(0, 0, 0))
-		if err != want || err == api.OK && (len(got) != int(4*most) || at != -1) || err != api.OK && (got != nil || at != 13) {
-			t.Error(most, len(got), at, err)
+	for k, c := range []struct {
+		most, last int64
+		n          int
+		want       api.Errno
+	}{{2499, 4, 9996, api.OK}, {2500, 4, 10000, api.OK}, {2600, 0, 10000, api.OK}, {2501, 1, 0, api.ErrFull}, {2501, 4, 0, api.ErrFull}} {
+		got, at, err := flow.Chain(exact(c.most, c.last), rec(0, 0, 0))
+		if len(got) != c.n || err != c.want || err == api.OK && at != -1 || err != api.OK && (got != nil || at != 13) {
+			t.Error(k, len(got), at, err)
 		}
 	}
 	if got, at, err := flow.Chain(slices.Repeat([]api.Vertex{vert(api.VertMap, val)}, 1<<16), rec(1, 2, 3)); len(got) != 1 || at != -1 || err != api.OK {

@@ -316,7 +316,7 @@ func TestExactlyAThousand(t *testing.T) { // P20.3
 }
 
 func TestDo(t *testing.T) { // P20.4
-	m := open(t, lay(source(0), vert(api.VertKey, 0, val, 0), vert(api.VertAgg, 0, sum, 1), vert(api.VertTumble, 10, sum, 2), sink(0, 2), vert(api.VertMap, 0, val, 2), vert(api.VertJoin, 0, val, 1, 2)), 1)
+	m := open(t, lay(source(0), vert(api.VertKey, 0, val, 0), vert(api.VertAgg, 0, sum, 1), vert(api.VertTumble, 10, sum, 2), sink(0, 2), vert(api.VertMap, 0, val, 2), vert(api.VertJoin, 0, val, 1, 2), vert(api.VertAgg, 0, sum, 0)), 1)
 	for k, c := range []struct {
 		v    int
 		c    api.Change
@@ -342,7 +342,8 @@ func TestDo(t *testing.T) { // P20.4
 		{0, set(0, 0, 0, 7), api.ErrNone},
 		{0, set(1, 0, 0, 7), api.ErrNone},
 		{4, set(1, 0, 0, 7), api.ErrNone}, {5, set(1, 0, 0, 7), api.ErrNone}, {6, set(1, 0, 0, 7), api.ErrNone},
-		{-1, set(1, 0, 0, 7), api.ErrNone}, {7, set(1, 0, 0, 7), api.ErrNone}, {math.MaxInt64, set(1, 1, 1, 7), api.ErrNone}, {math.MinInt64, gone(0, 0, 0), api.ErrNone},
+		{7, set(1, 0, 0, 7), api.ErrNone}, // a store of another part
+		{-1, set(1, 0, 0, 7), api.ErrNone}, {8, set(1, 0, 0, 7), api.ErrNone}, {math.MaxInt64, set(1, 1, 1, 7), api.ErrNone}, {math.MinInt64, gone(0, 0, 0), api.ErrNone},
 	} {
 		if err := m.Do(c.v, c.c); err != c.want {
 			t.Errorf("%d: %d, want %d", k, err, c.want)

@@ -307,6 +307,23 @@ func TestEntriesInOrder(t *testing.T) { // P21.2
 	}
 }
 
+func TestPartitions(t *testing.T) { // P21.2: a sink's log is of the task's partition, a key's of that of the record's key
+	x := lay(source(0), key(0), sink(0, 0), vert(api.VertMap, 0, over, 0))
+	at := func(kind, v, p int) int { return cut.Log(x, kind, v, p) }
+	y := told(log(at(0, 0, 1), r(2, 0, 7)), log(at(0, 0, 0), r(3, 1, 7)))
+	for p, want := range [][]api.Entry{
+		{data(0, at(0, 1, 1), r(1, 1, 7)), data(0, at(0, 2, 0), r(3, 1, 7)), data(0, at(1, 0, 0), r(0, 0, 0)), data(0, at(1, 0, 0), r(0, 7, 0))},
+		{data(1, at(0, 1, 0), r(0, 0, 7)), data(1, at(0, 2, 1), r(2, 0, 7)), data(1, at(1, 0, 1), r(0, 0, 0)), data(1, at(1, 0, 1), r(0, 7, 0)), data(1, at(2, 3, 1), r(2, 0, 7))},
+	} {
+		k := open(t, x, p, y)
+		take(t, k, y, 0, true, api.OK)
+		want = append(want, api.Entry{Kind: api.EntryCommit, Task: p, Offs: []int{1}, Order: []int{0}})
+		if got := k.Entries(); !same(got, want) {
+			t.Errorf("%d:\n%v\nwant\n%v", p, got, want)
+		}
+	}
+}
+
 func TestTakeErrors(t *testing.T) { // P21.2
 	x := lay(source(0), source(1), vert(api.VertAgg, 0, sum, 0), vert(api.VertJoin, 0, sum, 1, 2))
 	in := func(v int) int { return cut.Log(x, 0, v, 0) }
