@@ -61,6 +61,10 @@ func TestAssign(t *testing.T) { // P22.1
 			t.Error(tasks, len(got))
 		}
 	}
+	many := slices.Repeat([]bool{true}, 1000000)
+	if got := asgn.Assign(1000, many, nil); got[0] != 0 || got[999] != 999 {
+		t.Error(got[0], got[999])
+	}
 	long := slices.Repeat([]int{0}, 1500) // above 1000 it counts as 1000, also for the share
 	if got := asgn.Assign(1500, alive("xx"), long); len(got) != 1000 || slices.Index(got, 1) != 500 {
 		t.Error(len(got), slices.Index(got, 1))
